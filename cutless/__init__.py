@@ -1,0 +1,1 @@
+"""Cutless: derivations cleared of their detours."""

@@ -1,4 +1,10 @@
-"""Statements for the tests: short ways to write them, and many of them in a fixed order."""
+"""Statements and derivations for the tests: short ways to write them, and many of them in a fixed order."""
+
+import itertools
+import random
+
+from cutless.rows import closes, is_own, more, names_in, parts, row_of
+from cutless.statements import put_in
 
 YES = ("yes",)
 NO = ("no",)
@@ -117,3 +123,205 @@ def of_signs(many, depth=0):
 def up_to(many, depth=0):
     """All statements of at most so many signs over the leaves."""
     return [A for signs in range(many + 1) for A in of_signs(signs, depth)]
+
+
+CLOSE = ("close",)
+SIDES = ("left", "right")
+
+
+def left(A, *kids, by=""):
+    """The rule of A on the left."""
+    return ("rule", "left", A, by, kids)
+
+
+def right(A, *kids, by=""):
+    """The rule of A on the right."""
+    return ("rule", "right", A, by, kids)
+
+
+def cut(A, first, second):
+    return ("cut", A, (first, second))
+
+
+# A row that doesn't close, and derivations of it that tell where they stand
+# by how often they begin with the same rule.
+BASE = row_of([both(P, Q), either(P, Q)], [either(P, R)])
+
+
+def based(many=0):
+    """A derivation of BASE, and of each row that has more, with many rules too much in it."""
+    return nested(many, lambda tree: left(both(P, Q), tree), left(both(P, Q), right(either(P, R), CLOSE)))
+
+
+def bush(many):
+    """A derivation of BASE, and of each row that has more, of so many nodes (three at least), as low as can be."""
+    if many < 7:
+        return based(many - 3)
+    return left(either(P, Q), bush((many - 1) // 2), bush(many - 1 - (many - 1) // 2))
+
+
+VERSIONS = (
+    lambda A: A,
+    lambda A: both(A, YES),
+    lambda A: either(A, NO),
+    lambda A: neg(neg(A)),
+    lambda A: either(A, A),
+)
+
+
+def version(A, k):
+    """A with a statement of the same meaning in the place of each word."""
+    if A[0] in ("yes", "no"):
+        return A
+    if A[0] == "word":
+        return VERSIONS[k](A)
+    return (A[0],) + tuple(version(B, k) for B in A[1:])
+
+
+def by_rules(row):
+    """A derivation of a row that needs no all and some, by whatever rules come first."""
+    if closes(row):
+        return CLOSE
+    for side, A in row:
+        branches = [] if A[0] in ("all", "some") else parts(side, A, "")
+        if branches and all(any(each not in row for each in branch) for branch in branches):
+            return ("rule", side, A, "", tuple(by_rules(more(row, branch)) for branch in branches))
+    raise ValueError(row)
+
+
+def carried(row, A, k, m, pick):
+    """A derivation of a row that has version k of A on the left and version m of it on the right.
+
+    It takes A apart on both sides sign by sign; `pick` gives an own name that is none of the names it is handed.
+    """
+    X, Y = version(A, k), version(A, m)
+    if A[0] in ("yes", "no", "word"):
+        return by_rules(row)
+    if A[0] in ("all", "some"):
+        name = pick(names_in(row))
+        signed = [("right", Y), ("left", X)] if A[0] == "all" else [("left", X), ("right", Y)]
+        row = more(row, [(side, put_in(B[1], name)) for side, B in signed])
+        kid = carried(row, put_in(A[1], name), k, m, pick)
+        (side, B), (other, C) = signed
+        return ("rule", side, B, name, (("rule", other, C, name, (kid,)),))
+    if A[0] == "not":
+        row = more(row, [("right", X[1]), ("left", Y[1])])
+        return left(X, right(Y, carried(row, A[1], m, k, pick)))
+    if A[0] == "and":
+        row = more(row, [("left", X[1]), ("left", X[2])])
+        return left(X, right(Y, *[carried(more(row, [("right", Y[n])]), A[n], k, m, pick) for n in (1, 2)]))
+    if A[0] == "or":
+        row = more(row, [("right", Y[1]), ("right", Y[2])])
+        return right(Y, left(X, *[carried(more(row, [("left", X[n])]), A[n], k, m, pick) for n in (1, 2)]))
+    row = more(row, [("left", Y[1]), ("right", Y[2])])
+    first = carried(more(row, [("right", X[1])]), A[1], m, k, pick)
+    return right(Y, left(X, first, carried(more(row, [("left", X[2])]), A[2], k, m, pick)))
+
+
+def picker(chance):
+    """Gives own names, near to one another so that they clash as often as can be."""
+
+    def pick(names):
+        return chance.choice([name for name in ["a", "b"] + [f"n{k}" for k in range(12)] if name not in names][:3])
+
+    return pick
+
+
+CARRIED = (
+    P,
+    neg(word("p", "a")),
+    both(P, word("q", "a")),
+    either(word("p", "a"), Q),
+    when(P, Q),
+    when(neg(P), Q),
+    every(word("p", "0")),
+    some(word("p", "0", "a")),
+    every(some(word("p", "0", "1"))),
+    some(every(word("p", "0", "1"))),
+    every(when(word("p", "0"), word("q", "0", "n0"))),
+    some(both(word("p", "0"), every(word("q", "0", "1")))),
+    every(every(either(word("p", "0", "1"), Q))),
+    some(some(neg(word("p", "0", "1", "b")))),
+    neg(every(neg(word("p", "0")))),
+    either(every(word("p", "0")), some(word("q", "0"))),
+    both(some(word("p", "0")), every(P)),
+    when(some(word("p", "0")), every(word("p", "0"))),
+)
+
+
+def carried_cuts():
+    """Rows with derivations, each a cut of a version of a statement between two others of it."""
+    given = []
+    for at, A in enumerate(CARRIED):
+        for k, m, n in itertools.permutations(range(len(VERSIONS)), 3):
+            if (k + 2 * m + 3 * n + at) % 5:
+                continue
+            pick = picker(random.Random(f"{at} {k} {m} {n}"))
+            row = row_of([version(A, k)], [version(A, n)])
+            first = carried(more(row, [("right", version(A, m))]), A, k, m, pick)
+            second = carried(more(row, [("left", version(A, m))]), A, m, n, pick)
+            given.append((row, cut(version(A, m), first, second)))
+    return given
+
+
+def chosen(chance, signs, depth=0):
+    """Some statement of so many signs."""
+    if signs == 0:
+        return chance.choice(leaves(min(depth, 2)))
+    kind = chance.choice(("not", "and", "or", "if", "all", "some"))
+    if kind == "not":
+        return neg(chosen(chance, signs - 1, depth))
+    if kind in ("all", "some"):
+        return (kind, chosen(chance, signs - 1, depth + 1))
+    first = chance.randrange(signs)
+    return (kind, chosen(chance, first, depth), chosen(chance, signs - 1 - first, depth))
+
+
+def steps_at(chance, row):
+    """The rules that may stand at the row and add something to it in each branch, as (side, A, name)."""
+    names = names_in(row)
+    given = []
+    for side, A in row:
+        if A[0] not in ("all", "some"):
+            given.append((side, A, ""))
+        elif is_own(side, A):
+            given.append((side, A, picker(chance)(names)))
+        else:
+            given += [(side, A, name) for name in names + [chance.choice(("a", "b", "n0", "n1"))]]
+    return [each for each in given if parts(*each) and all(set(b) - set(row) for b in parts(*each))]
+
+
+def sought(chance, row, most, often):
+    """Some derivation of the row at most so high, with cuts every so often; None where none is found."""
+    if closes(row) and (most <= 1 or chance.randrange(8)):
+        return CLOSE
+    given = steps_at(chance, row) if most > 1 else []
+    if most > 1 and chance.randrange(often) == 0:
+        A = chosen(chance, chance.randrange(3))
+        rows = [more(row, [("right", A)]), more(row, [("left", A)])]
+        node = ("cut", A)
+    elif given:
+        node = ("rule",) + chance.choice(given)
+        rows = [more(row, branch) for branch in parts(*node[1:])]
+    else:
+        return CLOSE if closes(row) else None
+    kids = []
+    for above in rows:
+        kids.append(sought(chance, above, most - 1, often))
+        if kids[-1] is None:
+            return None
+    return node + (tuple(kids),)
+
+
+def sought_derivations(many):
+    """So many rows with derivations of them of all sorts, some with cuts."""
+    chance = random.Random("derivations")
+    given = []
+    while len(given) < many:
+        lefts = [chosen(chance, chance.randrange(4)) for _ in range(chance.randrange(3))]
+        rights = [chosen(chance, chance.randrange(4)) for _ in range(chance.randrange(3))]
+        row = row_of(lefts, rights)
+        tree = sought(chance, row, 8, chance.choice((4, 8, 20)))
+        if tree is not None and tree != CLOSE:
+            given.append((row, tree))
+    return given

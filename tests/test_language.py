@@ -1,6 +1,7 @@
 """The package keeps to the part of Python that it is written in, as far as can be seen here."""
 
 import ast
+import builtins
 import pathlib
 import re
 import unittest
@@ -54,8 +55,8 @@ def bound_names(tree):
 
 class Language(unittest.TestCase):
     def test_the_files_of_the_stages_are_there(self):
-        names = {file.name for file in FILES}
-        self.assertLessEqual({"__init__.py", "errors.py", "statements.py", "rows.py"}, names)
+        told = "__init__ errors statements rows trees fitting steps parting"
+        self.assertLessEqual({f"{name}.py" for name in told.split()}, {file.name for file in FILES})
 
     def test_nothing_but_files_of_the_program_lies_in_the_package(self):
         others = [each.name for each in PACKAGE.iterdir() if each not in FILES and each.name != "__pycache__"]
@@ -101,12 +102,32 @@ class Language(unittest.TestCase):
                     self.assertEqual(node.level, 0, where)
                     self.assertTrue(node.module.startswith("cutless.") or node.module == "__future__", where)
 
+    def test_nothing_within_a_function_is_called_like_an_import_or_a_class(self):
+        for file in FILES:
+            tree = ast.parse(file.read_text())
+            taken = {alias.name for node in ast.walk(tree) if isinstance(node, ast.ImportFrom) for alias in node.names}
+            taken |= {node.name for node in ast.walk(tree) if isinstance(node, ast.ClassDef)}
+            for function in ast.walk(tree):
+                if isinstance(function, (ast.FunctionDef, ast.Lambda)):
+                    self.assertEqual(sorted(taken & bound_names(function)), [], (file.name, function.lineno))
+
+    def test_no_two_files_draw_from_one_another(self):
+        drawn = {}
+        for file in FILES:
+            froms = [node for node in ast.walk(ast.parse(file.read_text())) if isinstance(node, ast.ImportFrom)]
+            drawn[file.stem] = {node.module.split(".")[1] for node in froms}
+        while drawn:
+            free = [name for name in drawn if not drawn[name] & set(drawn)]
+            self.assertNotEqual(free, [], sorted(drawn))
+            for name in free:
+                del drawn[name]
+
     def test_names_are_plain_and_known(self):
         for file in FILES:
             tree = ast.parse(file.read_text())
             bound = bound_names(tree)
             with self.subTest(file=file.name):
-                self.assertEqual([name for name in sorted(bound) if name in BUILT_IN], [])
+                self.assertEqual([name for name in sorted(bound) if hasattr(builtins, name)], [])
                 plain = [name for name in sorted(bound) if name.startswith("_") and not name.endswith("__")]
                 self.assertEqual(plain, [])
                 used = {node.id for node in ast.walk(tree) if isinstance(node, ast.Name)}

@@ -108,10 +108,15 @@ def stepped(row, tree):
     return with_kids(tree, kids)
 
 
+def is_too_great(tree):
+    """Whether the tree has more nodes, or is higher, than a step may leave it."""
+    return nodes(tree) > MOST_NODES or height(tree) > MOST_HEIGHT
+
+
 def bounded_step(row, tree):
     """A step of a derivation that has a cut; refused where it is too great."""
     told = stepped(row, tree)
-    if nodes(told) > MOST_NODES or height(told) > MOST_HEIGHT:
+    if is_too_great(told):
         raise TooGreat("the step gives too great a tree")
     return told
 

@@ -3,8 +3,9 @@
 import itertools
 import random
 
-from cutless.rows import closes, is_own, more, names_in, parts, row_of
-from cutless.statements import put_in
+from cutless.rows import closes, is_own, marks, more, names_in, parts, row_of
+from cutless.statements import names_of, put_in, words_of
+from cutless.trees import cuts, fits
 
 YES = ("yes",)
 NO = ("no",)
@@ -158,6 +159,28 @@ def bush(many):
     if many < 7:
         return based(many - 3)
     return left(either(P, Q), bush((many - 1) // 2), bush(many - 1 - (many - 1) // 2))
+
+
+def grown(second, extra=0):
+    """A derivation of BASE whose step has the second kid's tree twice; so many rules stand beneath."""
+    A = neg(R)
+    kid = right(A, based())
+    tree = cut(A, left(either(P, Q), kid, kid), left(A, second))
+    return nested(extra, lambda tree: left(both(P, Q), tree), tree)
+
+
+def raised(second, extra=0):
+    """A derivation of BASE whose step is one higher than it."""
+    A = neg(R)
+    tree = cut(A, left(both(P, Q), right(A, based())), left(A, second))
+    return nested(extra, lambda tree: left(both(P, Q), tree), tree)
+
+
+def many_cuts(many):
+    """A derivation of p => p with so many cuts, each of which takes one step."""
+    if many == 0:
+        return CLOSE
+    return cut(Q, many_cuts((many - 1) // 2), many_cuts(many - 1 - (many - 1) // 2))
 
 
 VERSIONS = (
@@ -325,3 +348,55 @@ def sought_derivations(many):
         if tree is not None and tree != CLOSE:
             given.append((row, tree))
     return given
+
+
+def is_part(one, other):
+    """Whether the one signed statement is a part of the other, by any name."""
+    if one == other:
+        return True
+    side, A = other
+    # A name that stands nowhere is as good as any other one for a place that
+    # the one statement doesn't tell.
+    names = names_of(one[1]) + ["zz"] if A[0] in ("all", "some") else [""]
+    return any(is_part(one, each) for name in names for branch in parts(side, A, name) for each in branch)
+
+
+def dealings(row):
+    """All ways to deal the row to two parts, a statement in either or in both."""
+    for hands in itertools.product((1, 2, 3), repeat=len(row)):
+        ones = tuple(each for each, hand in zip(row, hands) if hand & 1)
+        others = tuple(each for each, hand in zip(row, hands) if hand & 2)
+        yield ones, others
+
+
+def assert_between(case, ones, others, told):
+    """What is told is derived from the first part, leads to the second, and speaks of what both know."""
+    I, first, second = told
+    case.assertIs(fits(more(ones, [("right", I)]), first), True, (ones, others, told))
+    case.assertIs(fits(more(others, [("left", I)]), second), True, (ones, others, told))
+    case.assertEqual((cuts(first), cuts(second)), (0, 0))
+    case.assertLessEqual(set(names_of(I)), set(names_in(ones)) & set(names_in(others)))
+    first_marks = {mark for side, A in ones for mark in marks(side, A)}
+    second_marks = {mark for side, A in others for mark in marks(side, A)}
+    case.assertLessEqual(set(marks("left", I)), first_marks)
+    case.assertLessEqual(set(marks("right", I)), second_marks)
+    for row in (ones, others):
+        case.assertLessEqual(set(words_of(I)), {word for side, A in row for word in words_of(A)})
+
+
+def some_world(chance, many, statements):
+    """A world of so many things, for the names and words of these statements."""
+    names = sorted({name for A in statements for name in names_of(A)})
+    words = sorted({each for A in statements for each in words_of(A)})
+    facts = {}
+    for text, terms in words:
+        often = chance.choice((1, 2, 3))
+        told = [each for each in itertools.product(range(many), repeat=terms) if chance.randrange(4) < often]
+        facts.setdefault(text, []).extend(told)
+    return (many, {name: chance.randrange(many) for name in names}, facts)
+
+
+def worlds_for(statements, often):
+    """Worlds of one to three things, so many of each number, for the names and words of these statements."""
+    chance = random.Random(repr(statements))
+    return [some_world(chance, many, statements) for many in (1, 2, 3) for _ in range(often)]

@@ -55,7 +55,7 @@ def bound_names(tree):
 
 class Language(unittest.TestCase):
     def test_the_files_of_the_stages_are_there(self):
-        told = "__init__ errors statements rows trees fitting steps parting"
+        told = "__init__ errors statements rows trees fitting steps parting worlds finding texts desk"
         self.assertLessEqual({f"{name}.py" for name in told.split()}, {file.name for file in FILES})
 
     def test_nothing_but_files_of_the_program_lies_in_the_package(self):
@@ -127,7 +127,8 @@ class Language(unittest.TestCase):
             tree = ast.parse(file.read_text())
             bound = bound_names(tree)
             with self.subTest(file=file.name):
-                self.assertEqual([name for name in sorted(bound) if hasattr(builtins, name)], [])
+                given = [name for name in sorted(bound) if hasattr(builtins, name) and name != "__init__"]
+                self.assertEqual(given, [])
                 plain = [name for name in sorted(bound) if name.startswith("_") and not name.endswith("__")]
                 self.assertEqual(plain, [])
                 used = {node.id for node in ast.walk(tree) if isinstance(node, ast.Name)}

@@ -1,12 +1,10 @@
 import copy
 import inspect
-import itertools
 import unittest
 
 from cutless.errors import NoProof, NotCleared, TooGreat
 from cutless.parting import parted
-from cutless.rows import marks, more, names_in, row_of
-from cutless.statements import names_of, words_of
+from cutless.rows import more, row_of
 from cutless.steps import cleared
 from cutless.trees import cuts, fits
 from tests.samples import (
@@ -17,11 +15,13 @@ from tests.samples import (
     Q,
     R,
     YES,
+    assert_between,
     based,
     both,
     bush,
     carried_cuts,
     cut,
+    dealings,
     either,
     every,
     left,
@@ -42,25 +42,11 @@ NONE = row_of([], [])
 
 
 class Checked(unittest.TestCase):
-    def assertBetween(self, ones, others, told):
-        """What is told is derived from the first part, leads to the second, and speaks of what both know."""
-        I, first, second = told
-        self.assertIs(fits(more(ones, [("right", I)]), first), True, (ones, others, told))
-        self.assertIs(fits(more(others, [("left", I)]), second), True, (ones, others, told))
-        self.assertEqual((cuts(first), cuts(second)), (0, 0))
-        self.assertLessEqual(set(names_of(I)), set(names_in(ones)) & set(names_in(others)))
-        first_marks = {mark for side, A in ones for mark in marks(side, A)}
-        second_marks = {mark for side, A in others for mark in marks(side, A)}
-        self.assertLessEqual(set(marks("left", I)), first_marks)
-        self.assertLessEqual(set(marks("right", I)), second_marks)
-        for row in (ones, others):
-            self.assertLessEqual(set(words_of(I)), {word for side, A in row for word in words_of(A)})
-
     def assertParted(self, ones, others, tree, I, first, second):
         self.assertIs(fits(more(ones, others), tree), True)
         given = parted(ones, others, tree)
         self.assertEqual(given, (I, first, second))
-        self.assertBetween(ones, others, given)
+        assert_between(self, ones, others, given)
 
 
 def turned(I, first=CLOSE, second=CLOSE):
@@ -363,15 +349,7 @@ class Refusals(unittest.TestCase):
                 parted(row_of([P], []), row_of([], [Q]), tree)
 
 
-def dealings(row):
-    """All ways to deal the row to two parts, a statement in either or in both."""
-    for hands in itertools.product((1, 2, 3), repeat=len(row)):
-        ones = tuple(each for each, hand in zip(row, hands) if hand & 1)
-        others = tuple(each for each, hand in zip(row, hands) if hand & 2)
-        yield ones, others
-
-
-class Promises(Checked):
+class Promises(unittest.TestCase):
     def test_every_dealing_of_many_derivations(self):
         kinds = {}
         for row, tree in carried_cuts()[::2] + sought_derivations(250):
@@ -381,14 +359,14 @@ class Promises(Checked):
                 continue
             for ones, others in dealings(row):
                 told = parted(ones, others, end)
-                self.assertBetween(ones, others, told)
+                assert_between(self, ones, others, told)
                 kinds[told[0][0]] = kinds.get(told[0][0], 0) + 1
         self.assertLessEqual({"yes", "no", "word", "not", "and", "or", "all", "some"}, set(kinds))
 
     def test_great_derivations(self):
         for tree in (based(37), bush(600)):
             for ones, others in dealings(BASE):
-                self.assertBetween(ones, others, parted(ones, others, tree))
+                assert_between(self, ones, others, parted(ones, others, tree))
 
     def test_what_is_handed_in_is_unchanged(self):
         for row, tree in sought_derivations(60):

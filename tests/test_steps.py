@@ -3,8 +3,7 @@ import inspect
 import unittest
 
 from cutless.errors import NoCut, NoProof, TooGreat
-from cutless.rows import more, parts, row_of
-from cutless.statements import names_of
+from cutless.rows import more, row_of
 from cutless.steps import cleared, clearing, step
 from cutless.trees import cuts, fits, height, measure, nodes, said
 from tests.samples import (
@@ -22,9 +21,12 @@ from tests.samples import (
     cut,
     either,
     every,
+    grown,
+    is_part,
     left,
+    many_cuts,
     neg,
-    nested,
+    raised,
     right,
     some,
     sought_derivations,
@@ -37,17 +39,6 @@ PB = word("p", "b")
 EVERY = every(word("p", "0"))
 SOME = some(word("p", "0"))
 WITNESS = some(word("q", "0"))
-
-
-def is_part(one, other):
-    """Whether the one signed statement is a part of the other, by any name."""
-    if one == other:
-        return True
-    side, A = other
-    # A name that stands nowhere is as good as any other one for a place that
-    # the one statement doesn't tell.
-    names = names_of(one[1]) + ["zz"] if A[0] in ("all", "some") else [""]
-    return any(is_part(one, each) for name in names for branch in parts(side, A, name) for each in branch)
 
 
 class Checked(unittest.TestCase):
@@ -411,19 +402,6 @@ class WhichCut(Checked):
 class Refusals(unittest.TestCase):
     """First NoProof, then NoCut, then TooGreat."""
 
-    def grown(self, second, extra=0):
-        """A derivation of BASE whose step has the second kid's tree twice; so many rules stand beneath."""
-        A = neg(R)
-        kid = right(A, based())
-        tree = cut(A, left(either(P, Q), kid, kid), left(A, second))
-        return nested(extra, lambda tree: left(both(P, Q), tree), tree)
-
-    def raised(self, second, extra=0):
-        """A derivation of BASE whose step is one higher than it."""
-        A = neg(R)
-        tree = cut(A, left(both(P, Q), right(A, based())), left(A, second))
-        return nested(extra, lambda tree: left(both(P, Q), tree), tree)
-
     def test_no_proof(self):
         wrong = cut(neg(P), based(), right(neg(P), based()))
         for tree in (CLOSE, left(both(P, Q), CLOSE), cut(P, CLOSE, CLOSE), wrong):
@@ -453,7 +431,7 @@ class Refusals(unittest.TestCase):
             self.assertEqual(cleared(BASE, tree), tree)
 
     def test_no_proof_ahead_of_too_great(self):
-        tree = self.grown(bush(400))
+        tree = grown(bush(400))
         for function in (step, clearing, cleared):
             with self.assertRaises(NoProof):
                 function(BASE[1:], tree)
@@ -461,7 +439,7 @@ class Refusals(unittest.TestCase):
     def test_more_than_600_nodes(self):
         # The step has 2 * (many + 1) + 11 nodes, and those beneath.
         for many, extra, behind in ((293, 1, 600), (294, 0, 601), (293, 0, 599), (293, 2, 601)):
-            tree = self.grown(bush(many), extra)
+            tree = grown(bush(many), extra)
             self.assertIs(fits(BASE, tree), True)
             self.assertLess(nodes(tree), 600)
             with self.subTest(behind=behind):
@@ -477,7 +455,7 @@ class Refusals(unittest.TestCase):
 
     def test_higher_than_40(self):
         for many, extra, behind in ((34, 0, 40), (35, 0, 41), (33, 1, 40), (34, 1, 41), (33, 0, 39)):
-            tree = self.raised(based(many), extra)
+            tree = raised(based(many), extra)
             self.assertIs(fits(BASE, tree), True)
             self.assertEqual(height(tree), behind - 1)
             with self.subTest(behind=behind):
@@ -491,15 +469,15 @@ class Refusals(unittest.TestCase):
                     self.assertIs(fits(BASE, told), True)
 
     def test_the_whole_tree_counts_not_the_cut_alone(self):
-        beside = left(either(P, Q), bush(306), self.grown(bush(140)))
+        beside = left(either(P, Q), bush(306), grown(bush(140)))
         self.assertIs(fits(BASE, beside), True)
         self.assertLess(nodes(beside), 600)
         self.assertEqual(nodes(step(BASE, beside)), 600)
-        beside = left(either(P, Q), bush(307), self.grown(bush(140)))
+        beside = left(either(P, Q), bush(307), grown(bush(140)))
         self.assertLess(nodes(beside), 600)
         with self.assertRaises(TooGreat):
             step(BASE, beside)
-        aside = left(either(P, Q), based(37), self.grown(based()))
+        aside = left(either(P, Q), based(37), grown(based()))
         self.assertEqual(height(aside), 41)
         with self.assertRaises(TooGreat):
             step(BASE, aside)
@@ -509,13 +487,6 @@ class Refusals(unittest.TestCase):
         self.assertEqual(step(BASE, tree), based(37))
         tree = cut(Q, bush(600), bush(100))
         self.assertEqual(step(BASE, tree), bush(600))
-
-
-def many_cuts(many):
-    """A derivation of p => p with so many cuts, each of which takes one step."""
-    if many == 0:
-        return CLOSE
-    return cut(Q, many_cuts((many - 1) // 2), many_cuts(many - 1 - (many - 1) // 2))
 
 
 class Clearing(unittest.TestCase):
